@@ -1,0 +1,1 @@
+"""Stations that run ahead as far as nothing can come."""
