@@ -27,7 +27,7 @@ def is_program(names, value, depth=1):
 
 def is_statement(names, value, depth):
     """Whether any value is a statement that may stand at this depth."""
-    if not isinstance(value, tuple) or not value or not isinstance(value[0], str):
+    if not isinstance(value, tuple) or not value:
         return False
     word = value[0]
     if word in ("if", "repeat"):

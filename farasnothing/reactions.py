@@ -88,7 +88,7 @@ def parts_off(actor, state, other, states):
     members = {one: True for one in states}
     if state not in members or other in members:
         return False
-    return all([other in members for one in states for other in actor.one_further(one)])
+    return all([further in members for one in states for further in actor.one_further(one)])
 
 
 def reactions(model, station, states):

@@ -8,7 +8,7 @@ from farasnothing.machine import Machine
 from tests import oracle
 from tests.checks import Checks
 from tests.driving import WORDS, driven
-from tests.samples import MODEL, RING, any_values
+from tests.samples import MODEL, RING, Maker, any_values
 
 NEVER = (10 ** 9, 0)
 
@@ -218,6 +218,22 @@ class Knowing(Checks, unittest.TestCase):
         self.assertEqual(told(((2, 0), 0, 20), ((6, 0), 0, 0), model=later_first), ((6, 1),))
         self.assertEqual(told(((6, 0), 0, 0), ((2, 0), 0, 7), ((4, 0), 0, 5), model=later_first), ((6, 1),))
         self.assertEqual(told(((4, 0), 0, 3), ((8, 0), 0, 0), ((8, 1), 0, 0), model=later_first), ((8, 0),))
+
+    def test_arrivals_are_the_least_of_all_further_letters(self):
+        sender = ('a', (), ('i',), ('o',), (), ((),))
+        other = ('b', (), ('i',), (), (), ((),))
+        for seed in range(40):
+            maker = Maker(seed)
+            model = (2, (sender, other), (('a', 'o', 'b', 'i', maker.dice.choice((0, 2, 5))),),
+                     ((maker.dice.randint(0, 9), 'a', 'i', 0),))
+            changes = maker.changes(model, turns=3)
+            item = model[3][0][0]
+            letters = []
+            for stamp in [(time, turn) for time in range(item, 20) for turn in range(5)]:
+                told = [change for change in changes if change[0] <= stamp]
+                letters.append(oracle.after(stamp, max(told)[2] if told else model[2][0][4]))
+            machine = Machine(model, roofs=(('a', 'b'),), changes=changes)
+            self.assertEqual(known(machine, 'b'), (min(letters),))
 
     def test_no_further_letter_overtakes_the_last_one(self):
         machine = Machine(MODEL, roofs=(('tap', 'sink'),), changes=(((2, 0), 0, 9), ((2, 1), 0, 1)))

@@ -288,6 +288,11 @@ class Rows(Checks, unittest.TestCase):
         self.assertEqual(answer, ((0, 0, None), (('sb', 0, None), ('sa', 0, 0))))
         for value in any_values():
             self.assertIs(shows_row(machine, ('sb',), value), False)
+            for at in range(3):
+                steps = answer[1][:at] + (value,) + answer[1][at:]
+                self.assertIs(shows_row(machine, ('sb',), (answer[0], steps)), False)
+        for step in (('sa', 0, 0), ('sb', 0, None), ('sa', None, 0), ('sa', 0, None), ('sb', 0, 1), ('sa', False, 0)):
+            self.assertIs(shows_row(machine, ('sb',), (answer[0], answer[1] + (step,))), False)
         for path in paths_of(answer):
             part = part_at(answer, path)
             for value in [*any_values(), False, list(part) if isinstance(part, tuple) else None]:
