@@ -144,3 +144,8 @@ def state_now(holder, place):
     post = holder.posts[place]
     alarms = tuple([alarm for alarm, stamp in zip(station[4], post.rings) if stamp is not None])
     return (post.cells, alarms)
+
+
+def new_actors(model):
+    """An actor for each station of a model."""
+    return [Actor(model, place) for place, _ in enumerate(model[1])]

@@ -4,7 +4,7 @@ A holder is a Clock or a Machine: it has a model, the changes in their sequence,
 posts and wires. An item of a station is (stamp, rank, number, worth).
 """
 
-from farasnothing.changing import letter_stamp
+from farasnothing.changing import ever_sent, letter_stamp
 from farasnothing.handling import handle
 from farasnothing.parts import find_line_from, find_line_into, find_rank, handlers_of, is_alarm
 from farasnothing.stamps import later
@@ -18,6 +18,7 @@ class Post:
         self.rings = rings  # for each alarm the stamp at which it rings, None if it is not set
         self.taken = taken  # for each in how many of its letters were taken
         self.done = ()  # its deeds
+        self.ever = ()  # (deed, cells, rings, taken) of all that it ever took: the deed, and what it had ahead
         self.marked = ()  # its marks, by how many deeds they have
 
 
@@ -25,8 +26,9 @@ class Wire:
     """What was sent on a line, each letter as (stamp, number, worth), and what is known of it."""
 
     def __init__(self):
-        self.letters = []  # all that were sent, by number
-        self.sent = 0  # how many the sender has sent
+        self.base = 0  # how many were sent of which nothing is known any more
+        self.letters = []  # all further ones that were ever sent, in the sequence of sending
+        self.sent = 0  # how many the sender has sent, by what it has now
         self.came = 0  # how many came to the receiver
         self.way = []  # what is on the way
         self.hears = (0, 0)  # what was heard
@@ -63,7 +65,7 @@ def waiting_letters(holder, place, port):
     if line is None:
         return first_letters(holder.model, station, name)[taken:]
     wire = holder.wires[line]
-    return wire.letters[taken:wire.came]
+    return wire.letters[taken - wire.base:wire.came - wire.base]
 
 
 def items_at(holder, place):
@@ -89,12 +91,15 @@ def take_item(holder, place, item):
     stamp, rank, _, worth = item
     station = holder.model[1][place]
     post = holder.posts[place]
+    ahead = (post.cells, post.rings, post.taken)
     cells, sends, alarms, said = handle(holder.model[0], station, post.cells, rank, worth)
     post.cells = cells
     post.rings = rings_behind(station, post.rings, stamp, rank, alarms)
     post.taken = taken_behind(station, post.taken, rank)
     letters = send_all(holder, place, stamp, sends)
     deed = (stamp, station[0], handlers_of(station)[rank], worth, letters, said)
+    if len(post.done) == len(post.ever):
+        post.ever = (*post.ever, (deed, *ahead))
     post.done = (*post.done, deed)
     return deed
 
@@ -111,12 +116,23 @@ def send_all(holder, place, stamp, sends):
 
 
 def send(holder, line, stamp, worth):
-    """Sends a letter on a line by an item with this stamp; returns it."""
+    """Sends a letter on a line by an item with this stamp; returns it.
+
+    A station that fell and takes an item again sends the same letter again.
+    """
     wire = holder.wires[line]
-    letter = (letter_stamp(holder, line, stamp), wire.sent, worth)
-    wire.letters.append(letter)
+    if wire.sent == ever_sent(wire):
+        wire.letters.append((letter_stamp(holder, line, stamp), wire.sent, worth))
+    letter = wire.letters[wire.sent - wire.base]
     wire.sent += 1
     return letter
+
+
+def letters_on_way(wire):
+    """The letters that are on the way on a line: (stamp, number, worth)."""
+    many = len([told for told in wire.way if told[0] == "letter"])
+    begin = wire.came - wire.base
+    return wire.letters[begin:begin + many]
 
 
 def rings_behind(station, rings, stamp, rank, alarms):
@@ -139,18 +155,20 @@ def copied_post(post):
     """Another post with the same content."""
     other = Post(post.cells, post.rings, post.taken)
     other.done = post.done
+    other.ever = post.ever
     other.marked = post.marked
     return other
 
 
 def post_content(post):
     """All that a post has, but for its marks."""
-    return (post.cells, post.rings, post.taken, post.done)
+    return (post.cells, post.rings, post.taken, post.done, len(post.ever))
 
 
 def copied_wire(wire):
     """Another wire with the same content."""
     other = Wire()
+    other.base = wire.base
     other.letters = list(wire.letters)
     other.sent = wire.sent
     other.came = wire.came
@@ -162,4 +180,4 @@ def copied_wire(wire):
 
 def wire_content(wire):
     """All that a wire has."""
-    return (wire.letters, wire.sent, wire.came, wire.way, wire.hears, wire.tells)
+    return (wire.base, wire.letters, wire.sent, wire.came, wire.way, wire.hears, wire.tells)

@@ -66,6 +66,16 @@ def not_overtaking(holder, line, stamp):
 def last_sent(holder, line):
     """The stamp of the last letter that the sender, by what it has now, has sent on the line, None without one."""
     wire = holder.wires[line]
-    if not wire.sent:
+    return last_stamp(wire, wire.sent)
+
+
+def last_stamp(wire, many):
+    """The stamp of the last one of the first so many letters of a line, None without one."""
+    if not many:
         return None
-    return wire.letters[wire.sent - 1][0]
+    return wire.letters[many - wire.base - 1][0] if many > wire.base else (0, 0)
+
+
+def ever_sent(wire):
+    """How many letters were ever sent on a line, but for those that were taken back."""
+    return wire.base + len(wire.letters)

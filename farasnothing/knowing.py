@@ -39,25 +39,40 @@ def soonest_under(machine, group):
 def soonest_by(machine, group, words):
     """The table of soonest stamps of a group, each station by its word."""
     table = own_stamps(machine, group)
-    edges = []
-    for place in group:
-        edges.extend(edges_of(machine, group, place, words[place]))
+    edges = edges_in(machine, group, words)
     # What an event causes is later than it is, so the stamps come to rest after as many rounds as there are handlers.
     while lower_all(machine, table, edges):
         pass
     return table
 
 
+def every_place(machine):
+    """The places of all stations, as a group."""
+    return list(range(len(machine.posts)))
+
+
+def edges_in(machine, group, words):
+    """What handlers of the group can cause in it, each station by its word, as edges_of tells it."""
+    edges = []
+    for place in group:
+        edges.extend(edges_of(machine, group, place, words[place]))
+    return edges
+
+
 def lower_all(machine, table, edges):
     """Lowers each stamp of the table to what follows from the others; returns whether one became less."""
     lowered = False
     for cause, effect, worth, line in edges:
-        stamp = table[cause]
-        follows = alarm_after(stamp, worth) if line is None else letter_after(machine, line, stamp)
+        follows = follows_from(machine, table[cause], worth, line)
         if is_less(follows, table[effect]):
             table[effect] = follows
             lowered = True
     return lowered
+
+
+def follows_from(machine, stamp, worth, line):
+    """The stamp that follows by an edge from that of the handler at its beginning."""
+    return alarm_after(stamp, worth) if line is None else letter_after(machine, line, stamp)
 
 
 def alarm_after(stamp, worth):
@@ -123,21 +138,22 @@ def stamps_on_way(machine, line):
     return [told[1] for told in machine.wires[line].way if told[0] == "letter"]
 
 
-def least_arrival(machine, line, table, word):
-    """The least arrival of the soonest stamps of the handlers that can send on the line, by a word of knowing."""
+def senders_on(machine, line, words):
+    """The handlers that can send on the line, each station by its word."""
     place = sender_of(machine.model, line)
-    stamps = []
-    for rank, (outs, _) in enumerate(abilities(machine, place, word)):
-        if line in lines_from(machine, place, outs):
-            stamps.append(arrival(machine, line, table[place, rank]))
-    return least_of(stamps)
+    table = abilities(machine, place, words[place])
+    return [(place, rank) for rank, (outs, _) in enumerate(table) if machine.model[2][line][1] in outs]
+
+
+def least_arrival(machine, line, table, words):
+    """The least arrival of the soonest stamps of the handlers that can send on the line, each station by its word."""
+    return least_of([arrival(machine, line, table[key]) for key in senders_on(machine, line, words)])
 
 
 def arrives_first(machine, line):
     """The least arrival on a line, as those know it who stand under the roof of the station that sends on it."""
-    place = sender_of(machine.model, line)
-    table = soonest_under(machine, group_of(machine, place))
-    return least_arrival(machine, line, table, machine.knows[place])
+    table = soonest_under(machine, group_of(machine, sender_of(machine.model, line)))
+    return least_arrival(machine, line, table, machine.knows)
 
 
 def bound_under(machine, line):
@@ -170,12 +186,11 @@ def is_too_little(heard, rank, item):
 
 def surveyed(machine):
     """For each line its bound as all know it, each station by its own word, if they tell one another everything."""
-    table = soonest_under(machine, list(range(len(machine.posts))))
-    return [bound_by(machine, line, table) for line, _ in enumerate(machine.wires)]
+    table = soonest_under(machine, every_place(machine))
+    return [bound_by(machine, line, table, machine.knows) for line, _ in enumerate(machine.wires)]
 
 
-def bound_by(machine, line, table):
+def bound_by(machine, line, table, words):
     """The bound of a line, by a table of all stations."""
-    word = machine.knows[sender_of(machine.model, line)]
-    further = greater(machine.wires[line].hears, least_arrival(machine, line, table, word))
+    further = greater(machine.wires[line].hears, least_arrival(machine, line, table, words))
     return least_of([further, *stamps_on_way(machine, line)])

@@ -1,16 +1,22 @@
 """A model whose stations run ahead: each takes its next item when nothing can come ahead of it."""
 
-from farasnothing.actors import Actor
-from farasnothing.boards import Wire, copied_post, copied_wire, first_item_at, items_at
+from farasnothing.actors import new_actors
+from farasnothing.boards import Wire, copied_post, copied_wire, first_item_at, items_at, letters_on_way
 from farasnothing.boards import new_posts, post_content, take_item, wire_content
 from farasnothing.changing import are_changes, in_sequence
-from farasnothing.errors import BadChanges, BadKnows, BadRoofs, Inner, NoItem, NothingOnWay, Waits
+from farasnothing.drawing import begin_picture, copied_drawing, draw_flag, draw_letter, drawing_content, end_picture
+from farasnothing.errors import BadChanges, BadDelay, BadKnows, BadRoofs, BadStamp, Inner, NoItem, NothingOnWay
+from farasnothing.errors import TooEarly, Waits
+from farasnothing.falling import fall_back, forget_marks
 from farasnothing.knowing import arrives_first, heard_now, is_inner, line_waited_for, surveyed
 from farasnothing.marking import mark_content, write_mark
-from farasnothing.models import require_model
+from farasnothing.models import is_delay, require_model
 from farasnothing.nevers import greater
 from farasnothing.parts import handlers_of, place_of, require_line, require_lines
-from farasnothing.settings import are_roofs, are_words, is_no_less, is_word, roofs_of, united, words_of
+from farasnothing.returning import take_back
+from farasnothing.settings import are_roofs, are_words, is_no_less, is_word, roof_of, roofs_of, united, words_of
+from farasnothing.stamps import is_stamp
+from farasnothing.touching import Shift, changed
 
 
 class Machine:
@@ -32,7 +38,9 @@ class Machine:
         self.changes = in_sequence(changes)
         self.posts = new_posts(model)
         self.wires = [Wire() for _ in model[2]]
-        self.actors = [Actor(model, place) for place, _ in enumerate(model[1])]
+        self.actors = new_actors(model)
+        self.drawing = None
+        self.drawn = None
         self.log = ()
         for place, _ in enumerate(model[1]):
             write_mark(self, place)
@@ -47,7 +55,8 @@ class Machine:
         posts = [post_content(post) for post in self.posts]
         marks = [[mark_content(mark) for mark in post.marked] for post in self.posts]
         wires = [wire_content(wire) for wire in self.wires]
-        return (self.model, self.knows, self.roofs, self.unwritten, self.changes, posts, marks, wires)
+        pictures = (self.drawn, drawing_content(self.drawing))
+        return (self.model, self.knows, self.roofs, self.unwritten, self.changes, posts, marks, wires, pictures)
 
     def copy(self):
         """An independent machine with the same content, its log too."""
@@ -60,6 +69,8 @@ class Machine:
         other.wires = [copied_wire(wire) for wire in self.wires]
         # What actors found of the model holds for each machine of this model.
         other.actors = self.actors
+        other.drawing = copied_drawing(self.drawing)
+        other.drawn = self.drawn
         other.log = self.log
         return other
 
@@ -103,10 +114,14 @@ class Machine:
         wire = self.wires[line]
         if not wire.way:
             raise NothingOnWay(line)
-        told = wire.way.pop(0)
-        if told[0] == "letter":
+        if wire.way[0][0] == "letter":
+            draw_letter(self, line)
             wire.came += 1
-        wire.hears = greater(wire.hears, told[1])
+        told = wire.way.pop(0)
+        if told[0] == "flag":
+            draw_flag(self, line)
+        else:
+            wire.hears = greater(wire.hears, told[1])
         self.log = (*self.log, ("come", line))
         return told
 
@@ -126,8 +141,10 @@ class Machine:
         if waits is not None:
             raise Waits(waits)
         deed = take_item(self, place, item)
-        for line, _, stamp, worth in deed[4]:
-            self.put(line, ("letter", stamp, worth))
+        for line, number, stamp, worth in deed[4]:
+            # Behind a fall letters that came, or are on the way, are not sent a second time.
+            if number == self.wires[line].came + len(letters_on_way(self.wires[line])):
+                self.put(line, ("letter", stamp, worth))
         self.log = (*self.log, ("take", station))
         return deed
 
@@ -163,6 +180,8 @@ class Machine:
         """All that stand under the roofs of two stations stand under one."""
         place_of(self.model, station)
         place_of(self.model, other)
+        if other not in roof_of(self.roofs, station):
+            end_picture(self)
         self.roofs = united(self.model, self.roofs, station, other)
         self.log = (*self.log, ("unite", station, other))
 
@@ -181,3 +200,45 @@ class Machine:
     def marks(self, station):
         """How many deeds the marks of a station have, ascending."""
         return tuple([mark.many for mark in self.posts[place_of(self.model, station)].marked])
+
+    def picture(self, stations):
+        """A picture of all begins at each of these stations."""
+        begin_picture(self, stations)
+        self.log = (*self.log, ("picture", stations))
+
+    def fall(self, stations):
+        """These stations lose what they have, and all that must go back to marks; returns the row."""
+        row_of_marks = fall_back(self, stations)
+        self.log = (*self.log, ("fall", stations))
+        return row_of_marks
+
+    def behind(self, station):
+        """How many deeds a station has to take until it has all that it ever took."""
+        post = self.posts[place_of(self.model, station)]
+        return len(post.ever) - len(post.done)
+
+    def forget(self):
+        """Marks that no fall can need any more are gone; returns the greatest row that stands wholly."""
+        row_of_marks = forget_marks(self)
+        self.log = (*self.log, ("forget",))
+        return row_of_marks
+
+    def back(self, stamp):
+        """All is taken back to a stamp."""
+        if not is_stamp(stamp):
+            raise BadStamp(stamp)
+        take_back(self, stamp)
+        self.log = (*self.log, ("back", stamp))
+
+    def change(self, stamp, line, delay):
+        """From this stamp on letters that are sent on a line take this delay."""
+        if not is_stamp(stamp):
+            raise BadStamp(stamp)
+        require_line(self.model, line)
+        if not is_delay(delay):
+            raise BadDelay(delay)
+        shift = Shift(self, line, delay)
+        if not shift.is_let(stamp):
+            raise TooEarly(shift.least_let())
+        self.changes = changed(self, stamp, line, delay)
+        self.log = (*self.log, ("change", stamp, line, delay))

@@ -1,4 +1,4 @@
-"""Marks: what a station had when it wrote it down."""
+"""Marks: what a station had when it wrote it down. A mark is not changed any more."""
 
 from farasnothing.parts import lines_into, lines_out_of
 
@@ -6,25 +6,25 @@ from farasnothing.parts import lines_into, lines_out_of
 class Mark:
     """What a station had, and by the numbers of its lines which letters came, what was heard, how many were sent."""
 
-    def __init__(self, post, came, hears, sent):
-        self.many = len(post.done)
-        self.cells = post.cells
-        self.rings = post.rings
-        self.taken = post.taken
-        self.came = came
-        self.hears = hears
-        self.sent = sent
+    def __init__(self, many, cells, rings, taken):
+        self.many = many
+        self.cells = cells
+        self.rings = rings
+        self.taken = taken
+        self.came = {}
+        self.hears = {}
+        self.sent = {}
 
 
 def write_mark(machine, place):
     """Makes a mark of a station, in the place of one with as many deeds."""
-    wires = machine.wires
-    into = lines_into(machine.model, place)
-    came = {line: wires[line].came for line in into}
-    hears = {line: wires[line].hears for line in into}
-    sent = {line: wires[line].sent for line in lines_out_of(machine.model, place)}
     post = machine.posts[place]
-    mark = Mark(post, came, hears, sent)
+    mark = Mark(len(post.done), post.cells, post.rings, post.taken)
+    for line in lines_into(machine.model, place):
+        mark.came[line] = machine.wires[line].came
+        mark.hears[line] = machine.wires[line].hears
+    for line in lines_out_of(machine.model, place):
+        mark.sent[line] = machine.wires[line].sent
     post.marked = (*[other for other in post.marked if other.many < mark.many], mark)
 
 

@@ -1,5 +1,7 @@
 """Stamps that may be None, which means never and counts as greater than all stamps."""
 
+from farasnothing.stamps import is_stamp
+
 
 def greater(one, other):
     """The greater one of two stamps or nevers."""
@@ -19,3 +21,8 @@ def is_less(one, other):
     if one is None:
         return False
     return other is None or one < other
+
+
+def is_stamp_or_never(value):
+    """Whether any value is a stamp or None."""
+    return value is None or is_stamp(value)

@@ -30,6 +30,14 @@ def places_of(model, stations):
     return places
 
 
+def first_behind(machine):
+    """The first station that has to take again what it took ahead of a fall, None without one."""
+    for station, post in zip(machine.model[1], machine.posts):
+        if len(post.done) < len(post.ever):
+            return station[0]
+    return None
+
+
 def handlers_of(station):
     """The names of the handlers of a station, by rank."""
     return station[4] + station[2]

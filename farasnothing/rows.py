@@ -9,6 +9,12 @@ from farasnothing.values import is_integer, is_tuple_of
 
 def row(machine, stations):
     """The greatest row if these stations fall, and the steps that lead to it."""
+    marks, steps = brought_back(machine, stations)
+    return (row_of(marks), tuple(steps))
+
+
+def brought_back(machine, stations):
+    """Where the stations stand in the end if these fall, and the steps that lead there."""
     marks, steps = fallen(machine, stations)
     pulled = next_pull(machine, marks)
     while pulled is not None:
@@ -16,7 +22,7 @@ def row(machine, stations):
         marks[place] = mark
         steps.append((machine.model[1][place][0], mark.many, line))
         pulled = next_pull(machine, marks)
-    return (row_of(marks), tuple(steps))
+    return marks, steps
 
 
 def shows_row(machine, stations, value):
@@ -57,19 +63,24 @@ def next_pull(machine, marks):
 
 def pull_by(machine, marks, line):
     """The mark to which the sender of a line has to go back by it, None if it need not."""
-    wire = machine.wires[line]
     reached = marks[receiver_of(machine.model, line)]
-    if line in machine.unwritten and reached is not None:
-        came = reached.came[line]
+    if line not in machine.unwritten or reached is None:
+        return None
+    return mark_behind(machine, line, reached, sent_by(machine, marks, line))
+
+
+def mark_behind(machine, line, reached, sent):
+    """The mark to which the sender, which has sent so many letters, goes back if the receiver does to its mark."""
+    came = reached.came[line]
+    if came < machine.wires[line].came and came < sent:
         sender = sender_of(machine.model, line)
-        if came < wire.came and came < sent_by(machine, marks, sender, line):
-            return [mark for mark in machine.posts[sender].marked if mark.sent[line] <= came][-1]
+        return [mark for mark in machine.posts[sender].marked if mark.sent[line] <= came][-1]
     return None
 
 
-def sent_by(machine, marks, place, line):
-    """How many letters a station has sent on a line, by its mark or by what it has now."""
-    mark = marks[place]
+def sent_by(machine, marks, line):
+    """How many letters the sender of a line has sent on it, by its mark or by what it has now."""
+    mark = marks[sender_of(machine.model, line)]
     return machine.wires[line].sent if mark is None else mark.sent[line]
 
 

@@ -28,6 +28,11 @@ def is_no_less(word, other):
     return WORDS.index(word) >= WORDS.index(other)
 
 
+def greater_word(word, other):
+    """That one of two words by which one knows no less than by the other one."""
+    return word if is_no_less(word, other) else other
+
+
 def are_roofs(model, value):
     """Whether any value is a tuple of tuples of one or more names of stations, no name twice."""
     if not isinstance(value, tuple):

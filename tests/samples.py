@@ -151,3 +151,58 @@ class Maker:
         changes = [(stamp, line, delay) for (line, stamp), delay in told.items()]
         self.dice.shuffle(changes)
         return tuple(changes)
+
+
+def busy_model(seed, delays=(0, 1, 2, 3), most=4):
+    """A model in which letters go from station to station, each time with a lesser worth."""
+    dice = random.Random(seed)
+    names = ['s', 'u', 'o', 'w'][:dice.randint(1, most)]
+    outs = [(name, out) for name in names for out in 'xyz']
+    ins = [(name, port) for name in names for port in 'abc']
+    dice.shuffle(outs)
+    dice.shuffle(ins)
+    many = min(dice.randint(1, 8), len(ins) - 1)
+    lines = tuple([out + port + (dice.choice(delays),) for out, port in zip(outs[:many], ins[:many])])
+    stations = []
+    for name in names:
+        own = [line[1] for line in lines if line[0] == name]
+        into = tuple([port for other, port in ins if other == name])
+        alarms = dice.choice([(), ('k',), ('l', 'k')])
+        passing = [('send', out, ('-', 'it', 1)) for out in own if dice.random() < 0.7]
+        blocks = [(*[('send', out, 1) for out in own if dice.random() < 0.5], ('say', 'p')) for _ in alarms]
+        for _ in into:
+            block = [('set', 'p', ('+', 'p', 'it')), ('if', ('<', 0, 'it'), tuple(passing), ())]
+            if alarms and dice.random() < 0.4:
+                block.append(('wait', alarms[0], ('+', 'p', 1)))
+            blocks.append(tuple(block))
+        stations.append((name, (('p', 0),), into, tuple(dict.fromkeys(own)), alarms, tuple(blocks)))
+    first = [(dice.randint(0, 9), *dice.choice(ins[many:]), dice.randint(1, 3)) for _ in range(dice.randint(1, 6))]
+    first += [(dice.randint(0, 9), station[0], alarm, 0) for station in stations for alarm in station[4]
+              if dice.random() < 0.5]
+    return (4, tuple(stations), lines, tuple(first))
+
+
+def net_model(seed, many=None, lines=None, delays=((0, 0, 1), (1, 2, 3), (0, 1, 5), (0,)), latest=60):
+    """A model of stations with alarms, and lines between them; nothing waits at their ins."""
+    dice = random.Random(seed)
+    names = ['a', 'b', 'c', 'd'][:many or dice.randint(2, 4)]
+    outs = [(name, out) for name in names for out in 'opq']
+    ins = [(name, port) for name in names for port in 'ijl']
+    dice.shuffle(outs)
+    dice.shuffle(ins)
+    delays = dice.choice(delays)
+    lines = tuple([out + port + (dice.choice(delays),)
+                   for out, port in list(zip(outs, ins))[:lines or dice.randint(1, 6)]])
+    stations, first = [], []
+    for name in names:
+        own = tuple([line[1] for line in lines if line[0] == name])
+        into = tuple([line[3] for line in lines if line[2] == name])
+        alarms = ('k',) if dice.random() < 0.8 else ()
+        blocks = []
+        for _ in (*alarms, *into):
+            block = [('send', out, 1) for out in own if dice.random() < 0.7]
+            block += [('wait', 'k', dice.randint(1, 3))] if alarms and dice.random() < 0.3 else []
+            blocks.append(tuple(block))
+        stations.append((name, (), into, own, alarms, tuple(blocks)))
+        first += [(dice.randint(0, latest), name, 'k', 0) for _ in alarms]
+    return (4, tuple(stations), lines, tuple(first))

@@ -6,6 +6,7 @@ import unittest
 
 from farasnothing.machine import Machine
 from farasnothing.oneclock import Clock
+from farasnothing.pictures import restarted
 from tests.samples import MODEL
 
 FUNCTIONS = {
@@ -17,12 +18,21 @@ FUNCTIONS = {
                   'reactions': 'model station states'},
     'knowing': {'known': 'machine station'},
     'rows': {'row': 'machine stations', 'shows_row': 'machine stations value'},
+    'guards': {'guarded': 'machine stations safe prices', 'shows_guarded': 'machine stations safe prices value'},
+    'pictures': {'restarted': 'model picture knows roofs changes'},
+    'bounds': {'soonest': 'machine by', 'bound': 'machine line by', 'why_bound': 'machine line by',
+               'shows_bound': 'machine line by value'},
+    'relays': {'relayed': 'machine line', 'clock_of': 'machine'},
+    'notices': {'fewest': 'machine station most', 'prospects': 'machine'},
+    'levels': {'shows_fewest': 'machine station most value'},
+    'arrangements': {'shows_arranged': 'machine station most prices value'},
 }
 CLOCK = {'worths': 'station', 'all_items': '', 'step': '', 'run': 'many'}
 MACHINE = {'deeds_of': 'station', 'worths': 'station', 'next_item': 'station', 'waiting': 'station', 'heard': 'line',
            'told': 'line', 'on_way': 'line', 'come': 'line', 'may_take': 'station', 'take': 'station',
            'promise': 'line', 'note': 'line', 'learn': 'station word', 'unite': 'station other', 'survey': '',
-           'mark': 'station', 'marks': 'station', 'copy': ''}
+           'picture': 'stations', 'mark': 'station', 'marks': 'station', 'fall': 'stations', 'behind': 'station',
+           'forget': '', 'back': 'stamp', 'change': 'stamp line delay', 'copy': ''}
 
 
 def arguments(act):
@@ -44,13 +54,15 @@ class Interface(unittest.TestCase):
             for method, told in methods.items():
                 self.assertEqual(arguments(vars(one)[method]), told.split(), method)
         self.assertEqual(vars(Clock(MODEL))['deeds'], ())
-        for name in ('model', 'knows', 'roofs', 'unwritten', 'changes', 'log'):
+        for name in ('model', 'knows', 'roofs', 'unwritten', 'changes', 'drawn', 'log'):
             self.assertIn(name, vars(Machine(MODEL)))
 
     def test_what_stands_behind_a_star(self):
         self.assertEqual(str(inspect.signature(Clock)), '(model, *, changes=())')
         self.assertEqual(str(inspect.signature(Machine)),
                          "(model, *, knows='delays', roofs=(), unwritten=(), changes=())")
+        self.assertEqual(str(inspect.signature(restarted)),
+                         "(model, picture, *, knows='delays', roofs=(), changes=())")
 
 
 if __name__ == '__main__':

@@ -154,7 +154,9 @@ class Rows(Checks, unittest.TestCase):
     def change_one_thing(self, machine, stations, answer, dice):
         told, steps = answer
         at = dice.randrange(len(steps))
-        self.assertIs(shows_row(machine, stations, (told, steps[:at] + steps[at + 1:])), False)
+        if at < len(stations) or at == len(steps) - 1:
+            # A step between them may be left out if a later one brings its station further back anyway.
+            self.assertIs(shows_row(machine, stations, (told, steps[:at] + steps[at + 1:])), False)
         self.assertIs(shows_row(machine, stations, (told, steps[:at] + steps[at:at + 1] + steps[at:])), False)
         place = dice.randrange(len(told))
         for other in (0, 1, None, True, False, told):
