@@ -2,7 +2,7 @@
 
 from farasnothing.actors import new_actors
 from farasnothing.bounds import is_bare, road_to, words_by
-from farasnothing.boards import copied_wire, new_post
+from farasnothing.boards import Post, copied_wire
 from farasnothing.errors import Behind
 from farasnothing.knowing import bound_by, every_place, soonest_by
 from farasnothing.oneclock import Clock
@@ -31,16 +31,16 @@ def clock_of(machine):
     """A clock that goes on with what the machine has, letters on the way too."""
     require_none_behind(machine)
     clock = Clock(machine.model, changes=machine.changes)
+    clock.posts = [post_without_deeds(post) for post in machine.posts]
     clock.wires = [copied_wire(wire) for wire in machine.wires]
     for wire in clock.wires:
         wire.came = wire.sent
-    for place, post in enumerate(machine.posts):
-        other = new_post(machine.model, machine.model[1][place])
-        other.cells = post.cells
-        other.rings = post.rings
-        other.taken = post.taken
-        clock.posts[place] = other
     return clock
+
+
+def post_without_deeds(post):
+    """Another post that has the same but for deeds and marks."""
+    return Post(post.cells, post.rings, post.taken)
 
 
 def require_none_behind(machine):

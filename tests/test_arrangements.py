@@ -165,6 +165,8 @@ class Arranged(Checks, unittest.TestCase):
         most = ((('states', 'states'), (0,)), ('never', ()))
         far = ((('states', 'states'), ()), ('never', ((3, 0),)))
         self.assertIs(shows_arranged(machine, 'b', 4, prices, ('none', (most,))), True)
+        for kind in ('never', 'arranged', '', None, 0):
+            self.assertIs(shows_arranged(machine, 'b', 4, prices, (kind, (most,))), False)
         for rows, shown in (((most, far), True), ((far, most), True), ((far,), False), ((), False), ((most, None), False),
                             (((most[0], ('never', ((3, 0),))),), False), (((far[0], ('never', ())), most), False),
                             (((most[0], ('more', ((), (), (), (), ()))),), False),

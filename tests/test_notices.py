@@ -7,6 +7,7 @@ from farasnothing.errors import BadCount, NoItem, NoStation, OnWay
 from farasnothing.levels import shows_fewest
 from farasnothing.machine import Machine
 from farasnothing.notices import fewest, prospects
+from tests.beside import Beside
 from tests.checks import Checks
 from tests.driving import ALL, all_come, driven
 from tests.heard import Heard, is_below, net_pair
@@ -23,7 +24,7 @@ def crossed(ahead, delays=(2, 3)):
     return (2, (RING[1][0], b, c), lines, ((9, 'b', 'k', 0), (ahead, 'c', 'k', 0)))
 
 
-class Fewest(Checks, unittest.TestCase):
+class Fewest(Checks, Beside, unittest.TestCase):
 
     def test_the_example(self):
         machine = Machine(RING)
@@ -96,8 +97,65 @@ class Fewest(Checks, unittest.TestCase):
         self.assertEqual(fewest(quick, 'c', 8), ('never', (None, None, (4, 0))))
         still = Machine((2, tuple(names), (('a', 'y', 'b', 'x', 0), ('b', 'y', 'a', 'x', 0), lines[2]), machine.model[3]))
         self.assertEqual(fewest(still, 'c', 8), ('never', ((0, None), (0, None), (4, 0))))
+        changes = (((40, 0), 0, 0), ((40, 7), 1, 0))
+        far = Machine((2, tuple(names), lines, machine.model[3]), changes=changes)
+        self.assertEqual(fewest(far, 'c', 8), ('never', ((40, None), (40, None), (4, 0))))
+        turns = Machine((2, tuple(names), lines, machine.model[3]), changes=(((40, 90), 0, 0), ((40, 60), 1, 0)))
+        self.assertEqual(fewest(turns, 'c', 8), ('never', ((40, None), (40, None), (4, 0))))
         ended = Machine((2, tuple(names), lines, ((5, 'c', 'k', 0),)))
         self.assertEqual([fewest(ended, 'c', 8)[:2], fewest(ended, 'c', 0)[0]], [('notices', (2,)), 'more'])
+
+    def test_what_was_heard_is_below_the_tops(self):
+        names = (('a', (), ('x',), ('y',), (), ((),)), ('b', (), ('x',), ('y',), (), ((),)),
+                 ('c', (), ('v',), (), ('k',), ((), ())), ('d', (), ('f',), ('o',), (), ((),)))
+        lines = (('a', 'y', 'b', 'x', 0), ('b', 'y', 'a', 'x', 0), ('d', 'o', 'c', 'v', 4))
+        machine = Machine((2, names, lines, ((5, 'c', 'k', 0), (0, 'd', 'f', 1))))
+        low, high = ((0, None), (0, None), (4, 0)), (None, None, (4, 0))
+        self.assertEqual(fewest(machine, 'c', 8), ('never', low))
+        machine.survey()
+        self.assertEqual(fewest(machine, 'c', 8), ('never', high))
+        self.assertIs(shows_fewest(machine, 'c', 8, ('never', high)), True)
+        self.assertIs(shows_fewest(machine, 'c', 8, ('never', low)), False)
+
+    def test_letters_that_wait_at_the_end_of_a_line(self):
+        passing = (('a', (), ('f',), ('o',), (), ((('send', 'o', 1),),)), ('b', (), ('i',), ('o',), (), ((),)),
+                   ('c', (), ('i',), (), ('k',), ((), ())))
+        lines = (('a', 'o', 'b', 'i', 1), ('b', 'o', 'c', 'i', 2))
+        machine = Machine((2, passing, lines, ((1, 'a', 'f', 0), (9, 'c', 'k', 0))))
+        machine.take('a')
+        machine.come(0)
+        machine.note(0)
+        machine.come(0)
+        self.assertEqual([machine.heard(0), machine.waiting('b'), machine.promise(1)],
+                         [None, (((2, 0), 'i', 1),), (4, 0)])
+        self.assertEqual(fewest(machine, 'c', 8), ('never', (None, (4, 0))))
+        self.assertEqual(prospects(machine), ('none', 'goes', 'never'))
+        machine.take('b')
+        self.assertEqual(fewest(machine, 'c', 8)[:2], ('notices', (1,)))
+
+    def test_busy_machines_beside_plain_ones(self):
+        waits = 0
+        for seed in range(60):
+            machine, plain, _ = self.lead(seed, 25, kinds=['take'] * 3 + ['come'] * 5 + ['note', 'survey', 'mark'], busy=True)
+            for line, _ in enumerate(machine.model[2]):
+                while machine.on_way(line):
+                    self.order_both(machine, plain, ('come', line))
+            heard = Heard(plain)
+            for name in plain.names:
+                if not machine.waiting(name):
+                    continue
+                waits += not machine.may_take(name)
+                for most in (0, 2):
+                    answer = fewest(machine, name, most)
+                    least = heard.least(name, most)
+                    self.assertEqual(answer[1] if answer[0] == 'notices' else None, least)
+                    if answer[0] == 'notices':
+                        self.assertTrue(heard.are_levels(answer[2], name, len(least)))
+                    elif answer[0] == 'more':
+                        self.assertTrue(heard.are_levels(answer[1], name, most + 1) and heard.let(answer[2], name))
+                    else:
+                        self.assertTrue(heard.are_tops(answer[1], name))
+        self.assertGreater(waits, 10)
 
     def test_changes_ahead(self):
         machine = Machine(STILL, changes=(((0, 3), 0, 4),))
@@ -307,6 +365,19 @@ class Answers(Checks, unittest.TestCase):
                     self.assertIsInstance(shown, bool)
                     if value is not None and not isinstance(value, (int, tuple)) or isinstance(value, bool):
                         self.assertIs(shown, False, (path, value))
+
+    def test_the_wrong_kind_of_answer(self):
+        never, notices = fewest(Machine(STILL), 'b', 8), fewest(Machine(RING), 'b', 8)
+        for kind in ('notices', 'more', 'none', 'tops', '', None, 0, ('never',)):
+            self.assertIs(shows_fewest(Machine(STILL), 'b', 8, (kind, never[1])), False)
+        for kind in ('more', 'never', 'none', None, True):
+            self.assertIs(shows_fewest(Machine(RING), 'b', 8, (kind, *notices[1:])), False)
+        for most in range(9):
+            self.assertIs(shows_fewest(Machine(RING), 'b', most, notices), most >= 4)
+        more = fewest(Machine(RING), 'b', 3)
+        for most in range(9):
+            self.assertIs(shows_fewest(Machine(RING), 'b', most, more), most == 3)
+            self.assertIs(shows_fewest(Machine(RING), 'b', most, ('more', more[1], (1, 0, 1, 0))), most == 3)
 
     def test_any_value(self):
         for machine in (Machine(RING), Machine(STILL)):

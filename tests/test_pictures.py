@@ -359,6 +359,25 @@ class Restarted(Checks, unittest.TestCase):
         one.fall(('sink',))
         self.assertEqual([one.on_way(0), one.waiting('sink')], [(('letter', (9, 0), 1),), (((6, 0), 'b', 1),)])
 
+    def test_letters_that_are_lacking_behind_a_restart(self):
+        part = (9, (0,), (('bell', (8, 0)),), (('a', 1, (2, 0), 3),), (), ((7, (6, 0)),))
+        sink = (2, (), (), (('b', 5, (5, 0), 2),), ((5, 0),), ())
+        again = restarted(MODEL, ((part, sink), (((6, (6, 0), 3),),)))
+        again.take('tap')
+        again.come(0)
+        again.come(0)
+        self.assertEqual([again.on_way(0), len(again.waiting('sink'))], [(), 3])
+        self.assertEqual(again.fall(('sink',)), (None, 0))
+        self.assertEqual([again.on_way(0), again.waiting('sink')],
+                         [(('letter', (6, 0), 3), ('letter', (6, 0), 3)), (((5, 0), 'b', 2),)])
+        again.come(0)
+        again.mark('sink')
+        again.come(0)
+        again.fall(('sink', 'tap'))
+        self.assertEqual([again.on_way(0), len(again.waiting('sink'))], [(('letter', (6, 0), 3),), 2])
+        self.assertEqual(again.take('tap')[4], ((0, 7, (6, 0), 3),))
+        self.assertEqual(again.on_way(0), (('letter', (6, 0), 3),))
+
     def test_knows_roofs_and_changes(self):
         machine = under_way()
         machine.come(0)
