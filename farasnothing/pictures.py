@@ -138,7 +138,7 @@ def are_first(model, place, name, letters):
         return True
     told = [(letter[2], letter[1], letter[3]) for letter in letters if letter[0] == name]
     first = first_letters(model, model[1][place], name)
-    return len(told) <= len(first) and told == first[len(first) - len(told):]
+    return told == first[len(first) - len(told):]
 
 
 def is_sent(value):

@@ -4,7 +4,7 @@ Whether a change is let depends on its stamp alone in one way: if it is let from
 ones. So the least stamp from which it is let is found by halving.
 """
 
-from farasnothing.changing import arrival, ever_sent, in_sequence, last_sent, last_stamp
+from farasnothing.changing import arrival, ever_sent, in_sequence, last_stamp
 from farasnothing.knowing import alarm_after, edges_in, every_place, senders_on, soonest_by
 from farasnothing.nevers import is_less, least_of
 from farasnothing.parts import find_rank, in_rank_of, receiver_of, sender_of
@@ -21,7 +21,8 @@ class Shift:
         words = machine.knows
         table = soonest_by(machine, every_place(machine), words)
         self.first = least_of([table[key] for key in senders_on(machine, line, words)])
-        self.edges = edges_in(machine, every_place(machine), words)
+        # A letter that comes of the first one on the line comes on it later; so it touches nothing that one does not.
+        self.edges = [edge for edge in edges_in(machine, every_place(machine), words) if edge[3] != line]
         self.taken = [last_taken(machine, place) for place in every_place(machine)]
 
     def is_let(self, stamp):
@@ -64,13 +65,7 @@ class Shift:
 
     def after(self, stamp, worth, line):
         """What follows from a stamp by an edge, whatever was heard."""
-        if line is None:
-            return alarm_after(stamp, worth)
-        if line != self.line:
-            return arrival(self.machine, line, stamp)
-        last = last_sent(self.machine, line)
-        arrives = later(stamp, self.delay)
-        return arrives if last is None else max(arrives, last)
+        return alarm_after(stamp, worth) if line is None else arrival(self.machine, line, stamp)
 
     def touches(self, line, stamp):
         """Whether a letter on a line is below what was told of it or ahead of what was taken."""
@@ -87,15 +82,11 @@ class Shift:
         return self.least_turn(self.least_time(times, turns), turns)
 
     def beyond(self):
-        """A time and a turn that are greater than all that are known; further turns make no difference."""
-        wires = self.machine.wires
-        stamps = [wire.tells for wire in wires if wire.tells is not None]
-        stamps.extend([last_stamp(wire, ever_sent(wire)) for wire in wires if ever_sent(wire)])
+        """A time and a turn above all of what was told, taken or changed; greater ones make no difference."""
+        stamps = [wire.tells for wire in self.machine.wires if wire.tells is not None]
         stamps.extend([last[0] for last in self.taken if last is not None])
         stamps.extend([change[0] for change in self.machine.changes])
-        if self.first is not None:
-            stamps.append(self.first)
-        return max([stamp[0] for stamp in stamps] + [0]) + 1, max([stamp[1] for stamp in stamps] + [0]) + 1
+        return max([0, *[stamp[0] for stamp in stamps]]) + 1, max([0, *[stamp[1] for stamp in stamps]]) + 1
 
     def least_time(self, times, turns):
         """The least time that with so great a turn is a stamp from which the change is let."""

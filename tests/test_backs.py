@@ -4,6 +4,7 @@ import unittest
 
 from farasnothing.errors import BadStamp, Forgotten
 from farasnothing.machine import Machine
+from farasnothing.pictures import restarted
 from farasnothing.stamps import is_stamp
 from tests.checks import Checks
 from tests.samples import MODEL, any_values
@@ -151,6 +152,17 @@ class Backs(Checks, unittest.TestCase):
         machine.back((0, 0))
         self.assertEqual([machine.knows, machine.roofs, machine.changes],
                          [('states', 'programs'), (('tap', 'sink'),), (((2, 0), 0, 9),)])
+
+    def test_a_machine_made_of_a_picture(self):
+        part = (9, (0,), (('bell', (8, 0)),), (('a', 1, (2, 0), 3),), (), ((7, (6, 0)),))
+        sink = (2, (), (), (('b', 5, (5, 0), 2),), ((5, 0),), ())
+        machine = restarted(MODEL, ((part, sink), (((6, (6, 0), 3),),)))
+        self.assertEqual(machine.take('tap')[4], ((0, 7, (6, 0), 3),))
+        machine.back((2, 0))
+        self.assertEqual([machine.on_way(0), machine.behind('tap'), machine.told(0)], [(('letter', (6, 0), 3),), 0, (6, 0)])
+        machine.change((2, 0), 0, 9)
+        self.assertEqual(machine.take('tap')[4], ((0, 7, (11, 0), 3),))
+        self.assertEqual(machine.on_way(0), (('letter', (6, 0), 3), ('letter', (11, 0), 3)))
 
     def test_forgotten(self):
         machine = ended()

@@ -124,6 +124,31 @@ class Bounds(Checks, Beside, unittest.TestCase):
         for other in ((road[0], ('s', 'k', (6, 0))), (road[0], road[2]), road[1:], road[:2], (*road, road[2])):
             self.assertIs(shows_bound(machine, 0, 'programs', (told[0], other, told[2])), False)
 
+    def test_what_causes_what(self):
+        blocks = ((('send', 'o', 1),), (('wait', 'k', 3),), (('wait', 'k', 1),), (('send', 'p', 1),))
+        station = ('s', (), ('i', 'j', 'l'), ('o', 'p'), ('k',), blocks)
+        other = ('u', (), ('i', 'j'), (), (), ((), ()))
+        lines = (('s', 'o', 'u', 'i', 4), ('s', 'p', 'u', 'j', 2))
+        machine = Machine((5, (station, other), lines, ((5, 's', 'i', 0), (6, 's', 'j', 0), (6, 's', 'l', 0))))
+        table = (((7, 0), (5, 0), (6, 0), (6, 0)), ((11, 0), (8, 0)))
+        road = (('s', 'j', (6, 0)), ('s', 'k', (7, 0)))
+        self.assertEqual(why_bound(machine, 0, 'programs'), ((11, 0), road, table))
+        self.assertEqual(why_bound(machine, 1, 'programs'), ((8, 0), (('s', 'l', (6, 0)),), table))
+        for first in ('l', 'i', 'k'):
+            value = ((11, 0), ((('s', first, (6, 0)), road[1])), table)
+            self.assertIs(shows_bound(machine, 0, 'programs', value), False)
+        for first, stamp in (('j', (6, 0)), ('i', (5, 0)), ('k', (7, 0)), ('i', (6, 0))):
+            self.assertIs(shows_bound(machine, 1, 'programs', ((8, 0), (('s', first, stamp),), table)), False)
+
+    def test_never_by_what_was_heard(self):
+        machine = Machine(RING, knows='programs')
+        machine.survey()
+        self.assertEqual([machine.heard(0), bound(machine, 0, 'delays'), bound(machine, 1, 'delays')], [None, None, None])
+        table = soonest(machine, 'delays')
+        self.assertEqual([table, why_bound(machine, 0, 'delays')], [((None,), ((9, 0), None)), (None, (), table)])
+        for road, shown in (((), True), ((('b', 'k', (9, 0)),), False)):
+            self.assertIs(shows_bound(machine, 1, 'delays', (None, road, table)), shown)
+
     def test_words_of_each_station(self):
         machine = Machine(RING, knows=('delays', 'states'))
         self.assertEqual([bound(machine, 0, 'known'), bound(machine, 1, 'known')], [None, None])
