@@ -2,7 +2,7 @@
 
 from farasnothing.boards import letters_on_way
 from farasnothing.drawing import end_picture
-from farasnothing.parts import receiver_of, sender_of
+from farasnothing.parts import lines_into, lines_out_of, receiver_of, sender_of
 from farasnothing.rows import brought_back, row_of
 
 
@@ -24,13 +24,13 @@ def go_to(machine, place, mark):
     post.taken = mark.taken
     post.done = post.done[:mark.many]
     post.marked = tuple([other for other in post.marked if other.many <= mark.many])
-    for line, came in mark.came.items():
+    for line in lines_into(machine.model, place):
         wire = machine.wires[line]
-        wire.way = way_behind(machine, line, came)
-        wire.came = came
+        wire.way = way_behind(machine, line, mark.came[line])
+        wire.came = mark.came[line]
         wire.hears = mark.hears[line]
-    for line, sent in mark.sent.items():
-        machine.wires[line].sent = sent
+    for line in lines_out_of(machine.model, place):
+        machine.wires[line].sent = mark.sent[line]
 
 
 def way_behind(machine, line, came):

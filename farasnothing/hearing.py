@@ -24,9 +24,12 @@ class Listener:
         self.edges = [edges_in(machine, group, machine.knows) for group in self.groups]
         self.owns = [own_stamps(machine, group) for group in self.groups]
         self.senders = [senders_on(machine, line, machine.knows) for line, _ in enumerate(machine.wires)]
-        self.into = [[line for line in self.lines if receiver_of(machine.model, line) in group]
-                     for group in self.groups]
+        self.into = [self.lines_into_group(group) for group in self.groups]
         self.tables = {}
+
+    def lines_into_group(self, group):
+        """The lines that lead to a group from elsewhere."""
+        return [line for line in self.lines if receiver_of(self.machine.model, line) in group]
 
     def heard_first(self):
         """The heard things of the machine."""

@@ -58,12 +58,12 @@ def shown_levels(levels):
 def least_lines(listener, place, many):
     """The least tuple of so many lines, as few as can be, on which notices let the station take."""
     heard = listener.heard_first()
-    lines = []
+    found = []
     for left in range(many - 1, -1, -1):
-        line = [line for line in listener.lines if is_enough(listener, place, listener.noted(heard, line), left)][0]
-        heard = listener.noted(heard, line)
-        lines.append(line)
-    return tuple(lines)
+        enough = [line for line in listener.lines if is_enough(listener, place, listener.noted(heard, line), left)]
+        heard = listener.noted(heard, enough[0])
+        found.append(enough[0])
+    return tuple(found)
 
 
 def is_enough(listener, place, heard, many):
@@ -79,11 +79,11 @@ def is_enough(listener, place, heard, many):
 def lines_in_turn(listener, place):
     """Lines on which notices let the station take its next item, some number of them, in turn."""
     heard = listener.heard_first()
-    lines = []
+    found = []
     while not listener.may_take(place, heard):
         for line in listener.lines:
             further = listener.noted(heard, line)
             if further != heard and not listener.may_take(place, heard):
-                lines.append(line)
+                found.append(line)
                 heard = further
-    return tuple(lines)
+    return tuple(found)

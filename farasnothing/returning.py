@@ -49,11 +49,10 @@ def cut_post(machine, post, stamp, stays):
 def cut_mark(machine, mark, stamp, stays):
     """What is still so of a mark, if of each line so many letters stay."""
     other = Mark(mark.many, mark.cells, mark.rings, mark.taken)
-    for line, came in mark.came.items():
-        other.came[line] = min(came, stays[line])
-        other.hears[line] = lowered(machine.wires[line], mark.hears[line], stamp, other.came[line])
-    for line, sent in mark.sent.items():
-        other.sent[line] = sent
+    other.came = {line: min(came, stays[line]) for line, came in mark.came.items()}
+    other.hears = {line: lowered(machine.wires[line], heard, stamp, other.came[line])
+                   for line, heard in mark.hears.items()}
+    other.sent = mark.sent
     return other
 
 

@@ -88,7 +88,7 @@ class Arranged(Checks, unittest.TestCase):
         kinds = {'none': 0, 'arranged': 0}
         dear = others = 0
         for seed in range(110):
-            machine, plain = net_pair(seed, many=seed % 4 // 3 + 2, lines=seed % 3 + 1, delays=((0, 0, 1), (1, 2, 3), (0,)))
+            machine, plain = net_pair(seed, many=seed % 4 // 3 + 2, lines=seed % 4 + 1 if seed % 4 < 3 else 3, delays=((0, 0, 1), (1, 2, 3), (0,)))
             dice = random.Random(seed)
             names = [name for name in plain.names if machine.waiting(name)]
             if not names:
@@ -156,6 +156,15 @@ class Arranged(Checks, unittest.TestCase):
             self.assertIs(shows_arranged(machine, 'b', 0, PRICES, replaced(value, (1,), price + 1)), False)
         self.assertIs(shows_arranged(machine, 'b', 0, PRICES, ('arranged', False, (NONE, ()), (), ())), False)
         self.assertIs(shows_arranged(machine, 'b', 0, PRICES, ('none', ())), False)
+
+    def test_one_station(self):
+        station = ('s', (), ('i',), ('o',), ('k',), ((('send', 'o', 1),), ()))
+        machine = Machine((2, (station,), (('s', 'o', 's', 'i', 3),), ((4, 's', 'k', 0),)))
+        prices = (((1, 2),), (5,))
+        for price, words, lines, shown in ((0, ('delays',), (), True), (0, ('delays',), (0,), True),
+                                           (1, ('programs',), (), False), (2, ('states',), (0,), False),
+                                           (5, ('delays',), (0,), False)):
+            self.assertIs(shows_arranged(machine, 's', 0, prices, ('arranged', price, (words, lines), (), ())), shown)
 
     def test_none(self):
         sender = ('a', (), ('f',), ('o',), (), ((('send', 'o', 1),),))

@@ -164,6 +164,20 @@ class Backs(Checks, unittest.TestCase):
         self.assertEqual(machine.take('tap')[4], ((0, 7, (11, 0), 3),))
         self.assertEqual(machine.on_way(0), (('letter', (6, 0), 3), ('letter', (11, 0), 3)))
 
+    def test_letters_that_are_not_in_the_picture(self):
+        part = (9, (0,), (('bell', (8, 0)),), (), (), ((7, (6, 0)),))
+        for stamp, heard, told in (((2, 0), (2, 0), (6, 0)), ((0, 0), (0, 0), (6, 0)), ((5, 0), (5, 0), (6, 0)),
+                                   ((6, 1), (5, 0), (6, 0))):
+            machine = restarted(MODEL, ((part, (2, (), (), (), ((5, 0),), ())), (((6, (6, 0), 3),),)))
+            machine.back(stamp)
+            self.assertEqual([machine.heard(0), machine.told(0)], [heard, told])
+            machine.fall(('sink',))
+            self.assertEqual([machine.heard(0), machine.on_way(0)], [heard, (('letter', (6, 0), 3),)])
+        part = (9, (0,), (('bell', (8, 0)),), (), (), ((7, (4, 0)),))
+        machine = restarted(MODEL, ((part, (7, (), (), (), ((5, 0),), ())), ((),)))
+        machine.back((0, 0))
+        self.assertEqual([machine.heard(0), machine.told(0)], [(4, 0), (4, 0)])
+
     def test_forgotten(self):
         machine = ended()
         machine.mark('tap')

@@ -13,6 +13,7 @@ from tests.checks import Checks
 from tests.driving import ALL, WORDS, driven
 from tests.plain import NEVER, told
 from tests.samples import MODEL, RING, any_values, part_at, paths_of, replaced
+from tests.test_rows import chain
 
 BY = (*WORDS, 'known')
 
@@ -112,6 +113,25 @@ class Bounds(Checks, Beside, unittest.TestCase):
                 if line + 1 < len(delays):
                     road.append((machine.model[2][line][2], 'x', stamp))
             self.assertEqual(bound(machine, 0, 'programs'), None)
+
+    def test_rows_that_are_known_by_formula(self):
+        for delays in ((1, 2, 3), (0, 0, 0), (4, 0, 2), (0, 3, 0)):
+            size, stations, lines, first = chain(4)
+            lines = tuple([(*line[:4], delay) for line, delay in zip(lines, delays)])
+            machine = Machine((size, stations, lines, first))
+            for time in (0, 1, 2):
+                stamp, road = (time, 0), [('sa', 'i', (time, 0))]
+                for line, delay in enumerate(delays):
+                    stamp = later(stamp, delay)
+                    for by in BY:
+                        self.assertEqual(why_bound(machine, line, by)[:2], (stamp, tuple(road)))
+                    road.append(('s' + 'abcd'[line + 1], 'i', stamp))
+                machine.take('sa')
+                for line, name in ((0, 'sb'), (1, 'sc'), (2, 'sd')):
+                    machine.come(line)
+                    machine.survey()
+                    machine.take(name)
+            self.assertEqual([bound(machine, line, 'delays') for line in (0, 1, 2)], [None] * 3)
 
     def test_alarms_on_the_road(self):
         station = ('s', (), ('i',), ('o',), ('k', 'l'), ((('send', 'o', 1),), (('wait', 'k', 2),), (('wait', 'l', 3),)))

@@ -307,7 +307,7 @@ class Restarted(Checks, unittest.TestCase):
                 self.assertEqual(again.waiting(name),
                                  tuple(sorted(waiting, key=lambda item: (item[0], ranks.index(item[1])))))
                 into = [line for line, told in enumerate(machine.model[2]) if told[2] == name]
-                self.assertEqual([again.heard(line) for line in into], list(part[4]))
+                self.assertEqual([again.wires[line].hears for line in into], list(part[4]))
                 for line, heard in zip(into, part[4]):
                     sender = [other[0] for other in machine.model[1]].index(machine.model[2][line][0])
                     out_of = [other for other, told in enumerate(machine.model[2]) if told[0] == machine.model[2][line][0]]
@@ -323,7 +323,7 @@ class Restarted(Checks, unittest.TestCase):
             names = tuple([station[0] for station in machine.model[1]])
             again = restarted(machine.model, drawn, roofs=(names,), changes=machine.changes)
             before = [again.heard(line) for line, _ in enumerate(machine.model[2])]
-            again.picture(names[:1])
+            again.picture(stations=names[:1])
             parts = [(0, *part[1:4]) for part in drawn[0]]
             self.assertEqual([part[:4] for part in again.drawn[0]], parts)
             self.assertEqual([part[5] for part in again.drawn[0]], [part[5] for part in drawn[0]])
