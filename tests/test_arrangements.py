@@ -87,8 +87,8 @@ class Arranged(Checks, unittest.TestCase):
     def test_machines_beside_plain_ones(self):
         kinds = {'none': 0, 'arranged': 0}
         dear = others = 0
-        for seed in range(110):
-            machine, plain = net_pair(seed, many=seed % 4 // 3 + 2, lines=seed % 4 + 1 if seed % 4 < 3 else 3, delays=((0, 0, 1), (1, 2, 3), (0,)))
+        for seed in range(80):
+            machine, plain = net_pair(seed, many=seed % 4 // 3 + 2, lines=(1, 2, 4, 2)[seed % 4], delays=((0, 0, 1), (1, 2, 3), (0,)))
             dice = random.Random(seed)
             names = [name for name in plain.names if machine.waiting(name)]
             if not names:
@@ -104,8 +104,8 @@ class Arranged(Checks, unittest.TestCase):
             kinds[answer[0]] += 1
             dear += answer[0] == 'arranged' and answer[1] > 0
             others += self.other_answers(machine, plain, station, most, prices, answer, enough, dice)
-        self.assertGreater(min(kinds.values()), 5)
-        self.assertGreater(dear, 5)
+        self.assertGreater(min(kinds.values()), 3)
+        self.assertGreater(dear, 3)
         self.assertGreater(others, 5)
 
     def other_answers(self, machine, plain, station, most, prices, answer, enough, dice):

@@ -89,7 +89,7 @@ class Bounds(Checks, Beside, unittest.TestCase):
         for seed in range(60):
             machine = driven(seed, 40, busy=True)
             clock = Clock(machine.model, changes=machine.changes)
-            list(clock.run(400))
+            list(clock.run(200))
             for line, (sender, _, receiver, _, _) in enumerate(machine.model[2]):
                 sent = [letter for deed in clock.deeds for letter in deed[4] if letter[0] == line]
                 mine = [letter for deed in machine.deeds_of(sender) for letter in deed[4] if letter[0] == line]

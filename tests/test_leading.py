@@ -46,7 +46,7 @@ class Guarantees(unittest.TestCase):
     def names(self, machine):
         return [station[0] for station in machine.model[1]]
 
-    def assertBeginning(self, machine, many=300):
+    def assertBeginning(self, machine, many=200):
         clock = Clock(machine.model, changes=machine.changes)
         list(clock.run(many))
         for name in self.names(machine):
@@ -79,13 +79,13 @@ class Guarantees(unittest.TestCase):
             dice = random.Random(seed + 3000)
             for at in range(100):
                 do_any(machine, dice, ALL)
-                if at % 25 == 24:
+                if at % 50 == 49:
                     self.assertBeginning(machine)
             self.assertBeginning(machine)
             if self.end(machine):
                 ended += 1
                 clock = Clock(machine.model, changes=machine.changes)
-                list(clock.run(2000))
+                list(clock.run(600))
                 for name in self.names(machine):
                     plain = tuple([deed for deed in clock.deeds if deed[1] == name])
                     self.assertEqual([machine.deeds_of(name), machine.worths(name), machine.behind(name)],
