@@ -12,21 +12,17 @@ from farasnothing.parts import receiver_of, sender_of
 class Drawing:
     """What is drawn so far of a picture under way."""
 
-    def __init__(self, model):
-        self.parts = [None for _ in model[1]]  # by place, None of a station that is not drawn yet
-        self.ways = [[] for _ in model[2]]  # by line, the letters (number, stamp, worth) that belong to it
-        self.flagged = [False for _ in model[2]]  # by line, whether its flag came
+    def __init__(self, parts, ways, flagged):
+        self.parts = parts  # by place, None of a station that is not drawn yet
+        self.ways = ways  # by line, the letters (number, stamp, worth) that belong to it
+        self.flagged = flagged  # by line, whether its flag came
 
 
 def copied_drawing(drawing):
     """Another one with the same content; None of None."""
     if drawing is None:
         return None
-    other = Drawing(((), (), (), ()))
-    other.parts = list(drawing.parts)
-    other.ways = [list(way) for way in drawing.ways]
-    other.flagged = list(drawing.flagged)
-    return other
+    return Drawing(list(drawing.parts), [list(way) for way in drawing.ways], list(drawing.flagged))
 
 
 def drawing_content(drawing):
@@ -45,7 +41,8 @@ def begin_picture(machine, stations):
         raise Behind(late)
     if machine.drawing is not None:
         raise UnderWay()
-    machine.drawing = Drawing(machine.model)
+    lines = machine.model[2]
+    machine.drawing = Drawing([None for _ in machine.posts], [[] for _ in lines], [False for _ in lines])
     for place in places:
         draw_roof(machine, place)
     end_if_complete(machine)
