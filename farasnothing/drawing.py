@@ -2,11 +2,11 @@
 
 from farasnothing.boards import items_at, letters_on_way
 from farasnothing.changing import last_sent
-from farasnothing.errors import Behind, UnderWay, Unreached
+from farasnothing.errors import UnderWay, Unreached
 from farasnothing.knowing import group_of, heard_now, is_inner
 from farasnothing.nevers import greater
-from farasnothing.parts import first_behind, handlers_of, is_alarm, lines_into, lines_out_of, places_of
-from farasnothing.parts import receiver_of, sender_of
+from farasnothing.parts import handlers_of, is_alarm, lines_into, lines_out_of, places_of
+from farasnothing.parts import receiver_of, require_none_behind, sender_of
 
 
 class Drawing:
@@ -36,9 +36,7 @@ def begin_picture(machine, stations):
     missed = first_missed(machine, places)
     if missed is not None:
         raise Unreached(missed)
-    late = first_behind(machine)
-    if late is not None:
-        raise Behind(late)
+    require_none_behind(machine)
     if machine.drawing is not None:
         raise UnderWay()
     lines = machine.model[2]

@@ -1,6 +1,6 @@
 """Where the parts of a model stand: places of stations, ranks of handlers, numbers of lines."""
 
-from farasnothing.errors import NoLine, NoStation
+from farasnothing.errors import Behind, NoLine, NoStation
 from farasnothing.values import are_different, is_within
 
 
@@ -30,12 +30,11 @@ def places_of(model, stations):
     return places
 
 
-def first_behind(machine):
-    """The first station that has to take again what it took ahead of a fall, None without one."""
+def require_none_behind(machine):
+    """Raises Behind with the first station that has to take again what it took ahead of a fall."""
     for station, post in zip(machine.model[1], machine.posts):
         if len(post.done) < len(post.ever):
-            return station[0]
-    return None
+            raise Behind(station[0])
 
 
 def handlers_of(station):

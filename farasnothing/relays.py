@@ -3,10 +3,9 @@
 from farasnothing.actors import new_actors
 from farasnothing.bounds import is_bare, road_to, words_by
 from farasnothing.boards import Post, copied_wire
-from farasnothing.errors import Behind
 from farasnothing.knowing import bound_by, every_place, soonest_by
 from farasnothing.oneclock import Clock
-from farasnothing.parts import find_line_into, first_behind, handlers_of, require_line
+from farasnothing.parts import find_line_into, handlers_of, require_line, require_none_behind
 
 
 def relayed(machine, line):
@@ -41,13 +40,6 @@ def clock_of(machine):
 def post_without_deeds(post):
     """Another post that has the same but for deeds and marks."""
     return Post(post.cells, post.rings, post.taken)
-
-
-def require_none_behind(machine):
-    """Raises Behind with the first station that has to take again what it took ahead of a fall."""
-    late = first_behind(machine)
-    if late is not None:
-        raise Behind(late)
 
 
 def sends_along(machine, line):

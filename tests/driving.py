@@ -112,6 +112,6 @@ def net_start(seed, **named):
     changes = {}
     for _ in range(dice.choice((0, 0, 2, 4))):
         changes[dice.randrange(len(model[2])), (dice.randint(0, 60), dice.randint(0, 6))] = dice.choice((0, 1, 4))
-    roofs = (tuple(dice.sample(names, 2)),) if dice.random() < 0.3 else ()
+    roofs = (tuple(dice.sample(names, min(2, len(names)))),) if dice.random() < 0.3 else ()
     return Machine(model, knows=tuple([dice.choice(WORDS) for _ in names]), roofs=roofs,
                    changes=tuple([(stamp, line, delay) for (line, stamp), delay in changes.items()]))

@@ -20,7 +20,7 @@ METHODS = set(
 BARRED = set('register mro elements open input law version_info with_traceback add_note'.split())
 BARRED_WORDS = ('type', 'typing', 'enum', 'Enum', 'Flag', 'Generic', 'Protocol', 'ABC', 'namedtuple', 'dataclass')
 NODES = (ast.AsyncFor, ast.AsyncFunctionDef, ast.AsyncWith, ast.Await, ast.Global, ast.Import, ast.Set,
-         ast.GeneratorExp, ast.NamedExpr, ast.Div, ast.Try, ast.Match, ast.Delete, ast.Nonlocal)
+         ast.GeneratorExp, ast.NamedExpr, ast.Div, ast.Match, ast.Delete, ast.Nonlocal)
 
 
 def functions(tree):
@@ -118,9 +118,38 @@ class Language(unittest.TestCase):
                 if isinstance(node, ast.Constant):
                     self.assertNotIsInstance(node.value, (float, complex, bytes))
                 if isinstance(node, ast.Compare) and isinstance(node.ops[0], (ast.Is, ast.IsNot)):
-                    self.assertIsNone(node.comparators[0].value)
+                    self.assertIn(node.comparators[0].value, (None, True, False))
                 if isinstance(node, ast.Raise):
                     self.assertIsInstance(node.exc.func, ast.Name)
+
+    def test_errors_are_caught_by_their_own_names(self):
+        for _, _, tree in self.each():
+            for node in ast.walk(tree):
+                if isinstance(node, ast.Try):
+                    self.assertEqual([node.orelse, node.finalbody], [[], []])
+                    self.assertEqual([handler.type.id for handler in node.handlers], ['FarError'])
+
+    def test_leaving_a_block_assigns_attributes_alone(self):
+        exits = [function for tree in TREES.values() for function in functions(tree) if function.name == '__exit__']
+        for function in exits:
+            rows = [node for node in ast.walk(function) if isinstance(node, ast.stmt) and node is not function]
+            for row in rows:
+                self.assertIsInstance(row, (ast.If, ast.Assign))
+            for row in rows:
+                if isinstance(row, ast.Assign):
+                    self.assertIsInstance(row.targets[0], ast.Attribute)
+                    self.assertIsInstance(row.value, ast.Attribute)
+            calls = [node for node in ast.walk(function) if isinstance(node, ast.Call)]
+            self.assertEqual(calls, [])
+        self.assertEqual(len(exits), 1)
+
+    def test_behind_a_star_in_a_call_stands_a_name(self):
+        for _, _, tree in self.each():
+            for node in ast.walk(tree):
+                if isinstance(node, ast.Call):
+                    for arg in node.args:
+                        if isinstance(arg, ast.Starred):
+                            self.assertIsInstance(arg.value, (ast.Name, ast.Attribute, ast.List, ast.Tuple))
 
     def test_methods(self):
         own = [node.name for tree in TREES.values() for node in functions(tree)]
