@@ -18,9 +18,9 @@ def number_told(text):
 
 def stamp_told(text):
     """The stamp that a word tells, None if it has not the form of one."""
-    time, dot, turn = text.partition(".")
+    time, _, turn = text.partition(".")
     stamp = (number_told(time), number_told(turn))
-    return stamp if dot and None not in stamp else None
+    return None if None in stamp else stamp
 
 
 def name_told(text):

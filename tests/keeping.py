@@ -1,10 +1,20 @@
-"""Keepers at random, and beside a keeper a row of machines that are given the same orders."""
+"""Keepers at random, beside a keeper a row of machines that are given the same orders, journals read line by line."""
 
 import random
+import re
 
 from farasnothing.errors import FarError
 from farasnothing.keeper import Keeper
+from farasnothing.machine import Machine
+from farasnothing.models import is_model
 from tests.driving import ALL, made_machine, order_for
+from tests.wording import NAME, NUMBER, Bad, Text
+
+KNOWING = '(?:delays|programs|states)'
+STAMP = rf'{NUMBER}\.{NUMBER}'
+FORMS = [f'come {NUMBER}', f'take {NAME}', f'note {NUMBER}', f'learn {NAME} {KNOWING}', f'unite {NAME} {NAME}', 'survey',
+         f'picture {NAME}(?: {NAME})*', f'mark {NAME}', f'fall {NAME}(?: {NAME})*', 'forget', f'back {STAMP}',
+         f'change {STAMP} {NUMBER} {NUMBER}']
 
 
 def made_keeper(seed, **named):
@@ -113,3 +123,58 @@ def led_keeper(seed, many, kinds=ALL, **named):
     for _ in range(dice.randint(many // 2, many)):
         told_by(keeper, any_order(keeper.machine_now(), dice, kinds))
     return keeper
+
+
+def line_of(order):
+    """The line of an order, or of go, undo, redo."""
+    parts = []
+    for part in order[1:]:
+        if isinstance(part, tuple) and part and isinstance(part[0], str):
+            parts += part
+        else:
+            parts.append(f'{part[0]}.{part[1]}' if isinstance(part, tuple) else str(part))
+    return ' '.join([order[0], *parts])
+
+
+def order_in(line):
+    """The order that a line of the right form tells."""
+    word, *words = line.split(' ')
+    if word in ('picture', 'fall'):
+        return (word, tuple(words))
+    parts = [tuple(map(int, one.split('.'))) if '.' in one else int(one) if one.isdigit() else one for one in words]
+    return (word, *parts)
+
+
+def journal_told(text):
+    """What a journal tells, line by line: (name of the error, its value), or ('read', machine)."""
+    rows = text.split('\n')
+    told, at = Text(), 0
+    try:
+        while at < len(rows):
+            told.line(rows[at])
+            at += 1
+    except Bad:
+        pass
+    begin = at
+    forms = [f'knows {KNOWING}(?: {KNOWING})*', f'roof {NAME}(?: {NAME})*', f'unwritten {NUMBER}(?: {NUMBER})*', *FORMS]
+    if not told.complete() or at == len(rows) or not re.fullmatch(forms[0], rows[at]):
+        return ('BadText', at)
+    stage = 0
+    for at in range(begin + 1, len(rows)):
+        found = [number for number, form in enumerate(forms) if re.fullmatch(form, rows[at])]
+        if not found or found[0] == 0 or found[0] < stage or found[0] == stage == 2:
+            return ('BadText', at)
+        stage = min(found[0], 3)
+    words = [row.split(' ') for row in rows[begin:]]
+    roofs = tuple([tuple(one[1:]) for one in words if one[0] == 'roof'])
+    unwritten = [tuple(map(int, one[1:])) for one in words if one[0] == 'unwritten']
+    if not is_model(told.value()):
+        return ('BadModel', told.value())
+    try:
+        machine = Machine(told.value(), knows=tuple(words[0][1:]), roofs=roofs, unwritten=unwritten[0] if unwritten else ())
+    except FarError as error:
+        return (type(error).__name__, error.value)
+    for at in range(begin + 1 + len(roofs) + len(unwritten), len(rows)):
+        if given(machine, order_in(rows[at]))[0] == 'refused':
+            return ('BadText', at)
+    return ('read', machine)

@@ -11,6 +11,7 @@ from farasnothing.notices import fewest
 from tests.checks import Checks
 from tests.driving import WORDS
 from tests.heard import Heard, arranged, arranged_pair, net_pair
+from tests.plain import PlainMachine
 from tests.samples import MODEL, RING, any_values, part_at, paths_of, replaced
 
 NONE = ('delays', 'delays')
@@ -45,6 +46,14 @@ def price_of(machine, prices, arrangement):
         if not any([sender in roof and receiver in roof for roof in machine.roofs]):
             price += prices[1][line]
     return price
+
+
+def are_levels_by_form(level):
+    """Whether it is a tuple of pairs of stamps or None."""
+    def is_stamp(value):
+        return value is None or type(value) is tuple and [type(one) for one in value] == [int, int] and min(value) >= 0
+    return type(level) is tuple and all([type(one) is tuple and len(one) == 2 and is_stamp(one[0]) and is_stamp(one[1])
+                                         for one in level])
 
 
 def within(one, other):
@@ -208,6 +217,25 @@ class Arranged(Checks, unittest.TestCase):
             for told in (value, ('none', value), ('none', (value,)), ('arranged', value, value, value, value)):
                 self.assertIs(shows_arranged(machine, 'b', 3, PRICES, told), False)
         self.assertEqual([machine, machine.log], [before, ()])
+
+    def test_levels_with_one_thing_otherwise_at_any_depth(self):
+        """Other stamps are right if they are levels; whatever else stands there is not."""
+        machine = Machine(RING)
+        heard = Heard(PlainMachine(RING, machine.knows, machine.roofs, (), ()))
+        levels = fewest(machine, 'b', 3)[1]
+        answer = ('arranged', 2, (('programs', 'delays'), ()), (0,), (((NONE, ()), ('more', levels)),))
+        self.assertIs(shows_arranged(machine, 'b', 3, PRICES, answer), True)
+        seen = {True: 0, False: 0}
+        for path in paths_of(levels):
+            part = part_at(levels, path)
+            for value in [*any_values(), (9, 0), (6, 5), ((9, 0), (3, 0)), (((8, 0), (8, 0)),), list(part) if isinstance(part, tuple) else 0]:
+                other = replaced(levels, path, value)
+                form = isinstance(other, tuple) and len(other) == 4 and all([are_levels_by_form(level) for level in other])
+                expected = form and heard.are_levels(other, 'b', 4)
+                told = shows_arranged(machine, 'b', 3, PRICES, replaced(answer, (4, 0, 1, 1), other))
+                self.assertIs(told, expected, other)
+                seen[told] += 1
+        self.assertGreater(min(seen.values()), 30)
 
     def test_errors_in_their_sequence(self):
         machine = Machine(RING)

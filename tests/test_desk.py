@@ -14,7 +14,7 @@ from farasnothing.rows import row
 from farasnothing.texts import show_deed
 from tests.checks import Checks
 from tests.driving import ALL
-from tests.keeping import given, led_keeper, any_order
+from tests.keeping import any_order, given, led_keeper, line_of
 from tests.samples import MODEL, RING, any_values
 
 LINES = ('come 0', 'take tap', 'note 0', 'learn tap states', 'unite tap sink', 'survey', 'picture tap', 'mark tap',
@@ -32,17 +32,6 @@ def words(values, none='-'):
 
 def rows(values):
     return words(['-' if value is None else value for value in values])
-
-
-def line_of(order):
-    """The line of an order or of go, undo, redo."""
-    parts = []
-    for part in order[1:]:
-        if isinstance(part, tuple) and part and isinstance(part[0], str):
-            parts += part
-        else:
-            parts.append(f'{part[0]}.{part[1]}' if isinstance(part, tuple) else str(part))
-    return ' '.join([order[0], *parts])
 
 
 def answer(order, told):

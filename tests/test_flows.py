@@ -42,6 +42,13 @@ class Flows(unittest.TestCase):
             self.assertIs(self.shown(('adds', 12, (0, 0, 0, 0), flow), prices=(2, 3, 1, 9)), False)
             self.assertIs(self.shown(('adds', 12, (3, 2, 0, 0), flow), prices=(2, 3, 1, 9)), shown, flow)
 
+    def test_amounts_are_from_1(self):
+        for amount in (0, -1, True, None, '1', (1,)):
+            flow = (((0, 3), 1), ((1, 3), 1), ((0, 2, 3), amount))
+            self.assertIs(self.shown(('adds', 5, (2, 1, 0, 1), flow)), False)
+            self.assertIs(self.shown(('adds', 0, (0, 0, 0, 0), (((0, 3), amount),)), time=2), False)
+        self.assertIs(self.shown(('adds', 0, (0, 0, 0, 0), ()), time=2), True)
+
     def test_chains_that_have_a_line_several_times(self):
         flow = (((0, 2, 2, 3), 1), ((1, 3), 1))
         self.assertIs(self.shown(('adds', 5, (2, 1, 0, 1), flow)), False)

@@ -11,7 +11,7 @@ from farasnothing.oneclock import Clock
 from farasnothing.texts import show_model
 from tests.checks import Checks
 from tests.driving import ALL
-from tests.keeping import any_order, led_keeper, made_keeper, told_by
+from tests.keeping import any_order, journal_told, led_keeper, made_keeper, told_by
 from tests.samples import MODEL, RING, Maker, any_values
 from tests.wording import JUNK, spoiled
 
@@ -165,44 +165,67 @@ class Journals(Checks, unittest.TestCase):
         self.assertBad(journal(*begin, 'take tap', 'forget', 'survey', 'come 0', 'come 0', 'come 0'), MANY + 7)
 
     def test_spoiled_journals(self):
-        """Each thing otherwise: what is read is what is told, by the machine that is given the orders."""
+        """Each thing otherwise: what is read, or which error is raised, is as by the other reader."""
         kinds = {}
-        for seed in range(150):
+        for seed in range(260):
             dice = random.Random(seed)
-            text = led_keeper(seed, 12, busy=seed % 2 == 0).journal
+            keeper = led_keeper(seed, 12, busy=seed % 2 == 0)
+            rows = keeper.journal.split('\n')
+            head = len(rows) - len(keeper.orders)
             for _ in range(6):
-                kind = self.read_any(spoiled(text, dice))
+                if dice.random() < 0.4:
+                    text = spoiled(keeper.journal, dice)
+                else:
+                    text = '\n'.join([*rows[:head], *self.shuffled(rows[head:], dice)])
+                kind = self.assertRead(text)
                 kinds[kind] = kinds.get(kind, 0) + 1
-        self.assertGreater(min([kinds.get(kind, 0) for kind in (BadText, BadModel, 'read')]), 20, kinds)
+        self.assertGreater(min([kinds.get(kind, 0) for kind in ('BadText', 'BadModel', 'NoLine', 'read')]), 0, kinds)
+        self.assertGreater(min([kinds.get(kind, 0) for kind in ('BadText', 'BadModel', 'read')]), 30, kinds)
 
-    def read_any(self, text):
-        """Reads any text; what becomes of it is right by a second reading of what was read."""
+    def shuffled(self, rows, dice):
+        """Lines of orders left out, twice, in another sequence, with a word otherwise."""
+        rows = list(rows) or ['survey']
+        at, other = dice.randrange(len(rows)), dice.randrange(len(rows))
+        kind = dice.randrange(4)
+        if kind == 0:
+            return rows[:at] + rows[at + 1:]
+        if kind == 1:
+            return rows[:at] + rows[other:other + 1] + rows[at:]
+        if kind == 2:
+            rows[at], rows[other] = rows[other], rows[at]
+            return rows
+        words = rows[at].split(' ')
+        words[dice.randrange(len(words))] = dice.choice(('s', 'u', 'w', '0', '1', '7', '3.0', '0.0', 'states', 'take', 'come', 'fall'))
+        return rows[:at] + [' '.join(words)] + rows[at + 1:]
+
+    def assertRead(self, text):
+        """A text is read as by the other reader; what became of it."""
+        kind, told = journal_told(text)
         try:
             keeper = read_journal(text)
         except FarError as error:
-            if isinstance(error, BadText):
-                rows = text.split('\n')
-                self.assertLessEqual(error.line, len(rows))
-                if error.line == len(rows):
-                    return BadText
-                self.assertBad('\n'.join(rows[:error.line + 1]), error.line)
-            return type(error)
-        other = read_journal(keeper.journal)
-        self.assertSame(keeper, other)
-        if text != keeper.journal:
-            # Only roofs may be told in another sequence, and those of one station too, and lines in another sequence.
-            rows = [row for row in text.split('\n') if not row.startswith(('roof ', 'unwritten '))]
-            self.assertEqual(rows, [row for row in keeper.journal.split('\n') if not row.startswith(('roof ', 'unwritten '))])
-        return 'read'
+            self.assertEqual((type(error).__name__, list(vars(error).values())[0]), (kind, told), text)
+            return kind
+        self.assertEqual(kind, 'read', text)
+        self.assertTrue(keeper.machine_now() == told)
+        self.assertEqual(keeper.orders, told.log)
+        self.assertSame(keeper, read_journal(keeper.journal))
+        return kind
 
     def test_junk(self):
-        text = journal('knows delays states', 'roof tap sink', 'unwritten 0', 'take tap', 'survey', 'mark sink')
+        """Any line at any place behind the model."""
+        text = journal('knows delays states', 'roof tap', 'roof sink', 'unwritten 0', 'take tap', 'survey', 'mark sink')
         rows = text.split('\n')
-        for at in range(MANY, len(rows) + 1):
-            for row in JUNK:
-                if row != 'knows delays' or at != MANY:
-                    self.assertBad('\n'.join([*rows[:at], row, *rows[at:]]), at) if row[:5] not in ('first', '  in ') \
-                        else self.read_any('\n'.join([*rows[:at], row, *rows[at:]]))
+        lines = [*JUNK, 'knows states', 'roof tap', 'roof it', 'unwritten 0', 'unwritten 3', 'come 0', 'take tap', 'note 0',
+                 'learn tap states', 'unite tap sink', 'survey', 'picture tap', 'picture sink', 'mark tap', 'fall tap sink', 'forget',
+                 'back 0.0', 'back 1', 'change 9.0 0 5', 'change 0.0 0 5', 'go 1', 'undo', 'learn tap known', 'fall', 'fall tap 0']
+        kinds = {}
+        for at in range(MANY - 1, len(rows) + 1):
+            for row in lines:
+                for others in (rows[at:], rows[at + 1:]):
+                    kind = self.assertRead('\n'.join([*rows[:at], row, *others]))
+                    kinds[kind] = kinds.get(kind, 0) + 1
+        self.assertGreater(min([kinds.get(kind, 0) for kind in ('BadText', 'BadModel', 'BadRoofs', 'NoLine', 'read')]), 0, kinds)
 
 
 class Histories(unittest.TestCase):

@@ -9,7 +9,7 @@ from farasnothing.keeper import Keeper
 from farasnothing.machine import Machine
 from farasnothing.oneclock import Clock
 from tests.checks import Checks
-from tests.keeping import Row, any_order, led_keeper, made_keeper, told_by, went_on
+from tests.keeping import Row, any_order, led_keeper, line_of, made_keeper, told_by, went_on
 from tests.samples import MODEL, RING, any_values, replaced
 
 ORDERS = (('come', 0), ('take', 'tap'), ('note', 0), ('learn', 'tap', 'states'), ('unite', 'tap', 'sink'), ('survey',),
@@ -80,8 +80,7 @@ class Orders(Checks, unittest.TestCase):
                 machine = keeper.machine_now()
                 self.assertTrue(machine == row.now())
                 self.assertEqual([machine.log, keeper.orders], [row.now().log, row.now().log])
-                self.assertEqual(keeper.journal.split('\n')[:len(head.split('\n'))], head.split('\n'))
-                self.assertEqual(len(keeper.journal.split('\n')), len(head.split('\n')) + len(keeper.orders))
+                self.assertEqual(keeper.journal, '\n'.join([head, *[line_of(one) for one in keeper.orders]]))
                 if told[0] == 'refused':
                     self.assertEqual(shown(keeper), before)
                 kinds[told[0], order[0]] = kinds.get((told[0], order[0]), 0) + 1
@@ -406,6 +405,8 @@ class Trials(unittest.TestCase):
         seen = []
         self.assertIsNone(keeper.tried(look=seen.append))
         self.assertIs(seen[0], keeper)
+        self.assertEqual(len(keeper.tried(lambda one: one.go(2))), 2)
+        self.assertEqual(keeper.orders, ())
         self.assertEqual(keeper.tried(lambda one: one.tried(lambda two: two.go(1), keep=True), keep=False)[0][1], 'tap')
         self.assertEqual(keeper.orders, ())
         with self.assertRaises(TypeError):
@@ -485,6 +486,25 @@ class Alike(Checks, unittest.TestCase):
             for _ in range(20):
                 told_by(again, any_order(again.machine_now(), dice))
             self.assertEqual(steps_of(again), steps_of(other))
+
+    def test_a_copy_can_undo_and_redo_the_same(self):
+        keeper = Keeper(MODEL)
+        for order in (('take', 'tap'), ('mark', 'tap'), ('survey',)):
+            keeper.do(order)
+        keeper.undo()
+        keeper.undo()
+        other = keeper.copy()
+        self.assertEqual([other.orders, other.journal], [keeper.orders, keeper.journal])
+        for many in (2, 3):
+            other.redo()
+            self.assertEqual([len(other.orders), len(keeper.orders)], [many, 1])
+        for many in (2, 1, 0):
+            other.undo()
+            self.assertEqual([len(other.orders), len(keeper.orders)], [many, 1])
+        keeper.undo()
+        for many in (1, 2, 3):
+            keeper.redo()
+            self.assertEqual([len(other.orders), len(keeper.orders)], [0, many])
 
     def test_a_copy_within_a_trial_stays(self):
         keeper = Keeper(MODEL)
